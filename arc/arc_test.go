@@ -179,6 +179,27 @@ func TestFlattenKnown(t *testing.T) {
 	}
 }
 
+// P11.1: there is nothing between two points of which the middle is one of them, though their chord is not close: such are (41, 40) and (40, 40), and (40, 40) and (40, 41).
+func TestMiddleThatIsAnEnd(t *testing.T) {
+	l := list(54, 19, 48, 30, 45, 36, 43, 38, 42, 39, 41, 40, 40, 40, 40, 41, 39, 42, 38, 43, 36, 45, 30, 48, 19, 54)
+	for range 4 {
+		for _, center := range []api.Vec{v(0, 0), v(-7, 1946), v(1946, -1946)} {
+			a := ccw(center, l[0], l[len(l)-1])
+			want := moved(l, center)
+			if m, e := arc.Flatten(a, 1); e != api.OK || !slices.Equal(m, want) {
+				t.Errorf("%v: %v, %v; it should be %v", a, m, e, want)
+			}
+			if m, e := arc.Flatten(opposite(a), 1); e != api.OK || !slices.Equal(m, reversed(want)) {
+				t.Errorf("%v: %v, %v; it should be %v", opposite(a), m, e, reversed(want))
+			}
+		}
+		// The arc is turned by 90 degrees, and its chain with it.
+		for i, p := range l {
+			l[i] = v(-p.Y, p.X)
+		}
+	}
+}
+
 // P11.1: chains are those of the model; there are short ones, long ones, and ones with points beyond the limits of coordinates.
 func TestFlattenDefinition(t *testing.T) {
 	counts := map[string]int{}
